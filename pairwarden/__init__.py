@@ -1,0 +1,1 @@
+"""Pairwarden: a pool of disks that never loses a block."""
