@@ -8,10 +8,16 @@ from pairwarden.pooltext import write_pool
 
 
 def random_pool(dice, seats=4, pieces=5, cap=3):
-    """A pool of at most this many seats and pieces, from a seeded random source."""
-    many = dice.randint(1, seats)
-    caps = [dice.randint(0, cap) for _ in range(many)]
-    holders = [dice.sample(range(many), dice.randint(0, many)) for _ in range(dice.randint(0, pieces))]
+    """A pool of at most this many seats and pieces, from a seeded random source.
+
+    Small pools, caps of 0 and dead pieces come too, but most pieces hold pairs with room.
+    """
+    many = dice.choice((dice.randint(1, seats), seats, seats))
+    caps = [dice.choice((0, 1, 1, 1, dice.randint(1, cap))) for _ in range(many)]
+    holders = []
+    for _ in range(dice.choice((dice.randint(0, pieces), pieces, pieces))):
+        least = min(many, dice.choice((0, 2, 2, 2, 2)))
+        holders.append(dice.sample(range(many), dice.randint(least, many)))
     return Pool(caps, holders)
 
 
