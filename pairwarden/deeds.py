@@ -2,7 +2,7 @@
 
 from pairwarden.errors import InvalidDeed
 from pairwarden.numbering import are_different
-from pairwarden.pool import Pool
+from pairwarden.pool import Pool, pieces_on
 
 
 def apply_deed(pool, deed):
@@ -35,7 +35,7 @@ def inverse_deed(pool, deed):
 
 def loss_deed(pool, seat):
     """Return the deed that takes everything that the seat holds."""
-    return ("take", seat, tuple(_pieces_on(pool, seat)))
+    return ("take", seat, tuple(pieces_on(pool, seat)))
 
 
 def _is_valid(pool, deed):
@@ -44,7 +44,7 @@ def _is_valid(pool, deed):
         case ("seat", cap):
             return cap >= 0
         case ("retire",):
-            return pool.seats > 1 and not _pieces_on(pool, pool.seats - 1)
+            return pool.seats > 1 and not pieces_on(pool, pool.seats - 1)
         case ("cap", seat, cap):
             return 0 <= seat < pool.seats and cap >= 0
         case ("put", piece, holders):
@@ -82,11 +82,6 @@ def _holders_after(pool, deed):
         case ("take", seat, pieces):
             return _holders_without(pool, seat, pieces)
     return pool.holders
-
-
-def _pieces_on(pool, seat):
-    """Return the ascending list of the pieces that the seat holds."""
-    return [piece for piece, row in enumerate(pool.holders) if seat in row]
 
 
 def _can_change(pool, seat, pieces):

@@ -10,13 +10,28 @@ class Pool:
     def __init__(self, caps, holders):
         if len(caps) == 0 or min(caps) < 0:
             raise InvalidPool(None)
-        for piece, row in enumerate(holders):
-            if not are_different(row, len(caps)):
-                raise InvalidPool(piece)
         self.caps = tuple(caps)
-        self.holders = tuple([tuple(sorted(row)) for row in holders])
+        self.holders = ordered_holders(holders, len(caps))
         self.seats = len(self.caps)
         self.pieces = len(self.holders)
+
+
+def ordered_holders(holders, seats):
+    """Return the holders of each piece in ascending order, or raise InvalidPool with the first wrong piece."""
+    for piece, row in enumerate(holders):
+        if not are_different(row, seats):
+            raise InvalidPool(piece)
+    return tuple([tuple(sorted(row)) for row in holders])
+
+
+def pieces_on(pool, seat):
+    """Return the ascending list of the pieces that the seat holds."""
+    return [piece for piece, row in enumerate(pool.holders) if seat in row]
+
+
+def dead_pieces(pool):
+    """Return the ascending list of the pieces without holders."""
+    return [piece for piece, row in enumerate(pool.holders) if not row]
 
 
 def pair_room(pool, pair):
@@ -34,6 +49,11 @@ def holds_pair(pool, piece, pair):
 
 def held_pairs(pool, piece):
     """Return the ascending list of the pairs with room that the piece holds."""
+    return pairs_with_room(pool, pool.holders[piece])
+
+
+def pairs_with_room(pool, seats):
+    """Return the ascending list of the pairs with room of these seats, which ascend."""
     # Seats without a cap leave no room in any pair.
-    seats = [seat for seat in pool.holders[piece] if pool.caps[seat] > 0]
-    return [(first, second) for at, first in enumerate(seats) for second in seats[at + 1:]]
+    roomy = [seat for seat in seats if pool.caps[seat] > 0]
+    return [(first, second) for at, first in enumerate(roomy) for second in roomy[at + 1:]]

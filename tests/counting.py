@@ -2,6 +2,8 @@
 
 import itertools
 
+from pairwarden.pool import Pool
+
 
 def pairs_of(pool, piece):
     """The pairs that a piece holds, those without room included."""
@@ -65,3 +67,44 @@ def greatest_lack(pool):
 def order(dealing):
     """What dealings are compared by: pairs by their order, and None behind all of them."""
     return [(pair is None, pair or ()) for pair in dealing]
+
+
+def all_sends(pool, seat):
+    """All lists of sends that are allowed in the round of a seat, each with its sends in one order."""
+    choices = [
+        [None] + [(piece, sender) for sender in row if sender != seat] if seat in row else [None]
+        for piece, row in enumerate(pool.holders)
+    ]
+    rows = []
+    for row in itertools.product(*choices):
+        senders = [send[1] for send in row if send]
+        if all(senders.count(sender) <= pool.caps[sender] for sender in senders):
+            rows.append([send for send in row if send])
+    return rows
+
+
+def holders_after(pool, seat, pieces):
+    """The holders after a round in which these pieces are sent to the seat."""
+    return [
+        [other for other in row if other != seat or piece in pieces] for piece, row in enumerate(pool.holders)
+    ]
+
+
+def is_full(pool):
+    """Whether some dealing deals all pieces, found piece by piece."""
+    def deals_from(piece, given):
+        if piece == pool.pieces:
+            return True
+        return any(
+            deals_from(piece + 1, given + [pair]) for pair in pairs_of(pool, piece)
+            if given.count(pair) < room_of(pool, pair)
+        )
+    return deals_from(0, [])
+
+
+def sends_that_keep(pool, seat):
+    """All allowed lists of sends after which the pool is safe."""
+    return [
+        sends for sends in all_sends(pool, seat)
+        if is_full(Pool(pool.caps, holders_after(pool, seat, [piece for piece, _ in sends])))
+    ]

@@ -3,6 +3,7 @@
 import random
 import time
 
+from pairwarden.nets import Net
 from pairwarden.pool import Pool
 from pairwarden.pooltext import write_pool
 
@@ -80,3 +81,26 @@ def error_of(kind, call, *args, **named):
         assert error.__class__ is kind, error.__class__
         return error
     raise AssertionError(f"no {kind.__name__}")
+
+
+def random_sends(dice, pool, seat, share=1):
+    """Allowed sends in any order; with a smaller share, fewer of those that are possible."""
+    held = [piece for piece in range(pool.pieces) if seat in pool.holders[piece] and dice.random() <= share]
+    sends, left = [], list(pool.caps)
+    for piece in dice.sample(held, len(held)):
+        senders = [sender for sender in pool.holders[piece] if sender != seat and left[sender] > 0]
+        if senders:
+            sends.append((piece, dice.choice(senders)))
+            left[sends[-1][1]] -= 1
+    return sends
+
+
+def random_net(dice, seats=4, pieces=3, road=2):
+    """A net of at most this many seats and pieces."""
+    many = dice.randint(1, seats)
+    roads = [[dice.choice((0, 1, 1, dice.randint(0, road))) for _ in range(many)] for _ in range(many)]
+    holders = []
+    for _ in range(dice.randint(0, pieces)):
+        least = min(many, dice.choice((0, 2, 2, 3)))
+        holders.append(dice.sample(range(many), dice.randint(least, many)))
+    return Net(roads, holders)
