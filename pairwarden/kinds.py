@@ -46,5 +46,5 @@ def _links(pool):
 
 def _amounts(pool, kinds):
     """Return the amounts of a greatest spread, for the pool with one piece of each kind."""
-    rooms = {pair: pair_room(pool, pair) for pair in pairs_with_room(pool, range(pool.seats))}
+    rooms = {pair: pair_room(pool, pair) for pair in pairs_with_room(pool, list(range(pool.seats)))}
     return greatest_amounts(_counts(kinds), _links(pool), rooms)

@@ -23,7 +23,7 @@ def greatest_lot(pool):
 def open_pairs(pool):
     """Return the ascending list of the pairs with room that no piece of the greatest lot holds."""
     dealing = greatest_dealing(pool)
-    roomy = pairs_with_room(pool, range(pool.seats))
+    roomy = pairs_with_room(pool, list(range(pool.seats)))
     pairs = [pair for pair in roomy if dealing.count(pair) < pair_room(pool, pair)]
     at = 0
     while at < len(pairs):
