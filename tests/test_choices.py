@@ -4,6 +4,7 @@ import itertools
 import random
 import unittest
 
+from choosing import all_back, all_choices, is_back, lasts, losses
 from pairwarden.choices import count_fault, give_back, is_lasting, weak_seats
 from pairwarden.errors import InvalidChoice
 from pairwarden.nets import Net, after_losses
@@ -18,39 +19,6 @@ def random_choice(dice, net):
         tuple(sorted(dice.sample(row, dice.randint(min(len(row), dice.choice((0, 1, 2, 2))), len(row)))))
         for row in net.holders
     ]
-
-
-def all_choices(net):
-    """All choices of a small net."""
-    rows = [
-        [group for many in range(len(row) + 1) for group in itertools.combinations(row, many)] for row in net.holders
-    ]
-    return [list(choice) for choice in itertools.product(*rows)]
-
-
-def all_back(net, choice, lost):
-    """All allowed lists of sends, by seat and piece, that send each piece to the lost seats of its tuple."""
-    needs = [(piece, seat) for seat in lost for piece, row in enumerate(choice) if seat in row]
-    ways = [[sender for sender in choice[piece] if sender not in lost] for piece, _ in needs]
-    found = []
-    for senders in itertools.product(*ways):
-        roads = [(sender, seat) for sender, (_, seat) in zip(senders, needs)]
-        if all(roads.count((sender, seat)) <= net.roads[sender][seat] for sender, seat in roads):
-            found.append([(piece, sender, seat) for sender, (piece, seat) in zip(senders, needs)])
-    return found
-
-
-def is_back(net, choice, lost):
-    return all(set(row) - set(lost) for row in choice) and bool(all_back(net, choice, lost))
-
-
-def losses(net, many):
-    return list(itertools.combinations(range(net.seats), many))
-
-
-def lasts(net, choice, at_once):
-    most = min(at_once, net.seats)
-    return all(is_back(net, choice, lost) for many in range(most + 1) for lost in losses(net, many))
 
 
 def first_weak(net, at_once):
