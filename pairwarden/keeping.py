@@ -19,7 +19,7 @@ class KeptDealing:
     def do(self, deed):
         """Do a deed, and make the dealing a greatest one again."""
         pool = apply_deed(self.pool, deed)
-        start = _without_wrong(pool, _renumbered(self._pairs, deed))
+        start = without_wrong(pool, _renumbered(self._pairs, deed))
         self._pairs = greatest_dealing(pool, start=start)
         self.pool = pool
 
@@ -34,7 +34,7 @@ def _renumbered(pairs, deed):
     return pairs
 
 
-def _without_wrong(pool, pairs):
+def without_wrong(pool, pairs):
     """Return the dealing of the pool with those pairs that their pieces can still have."""
     dealing = []
     for piece, pair in enumerate(pairs):

@@ -3,6 +3,7 @@
 from pairwarden.errors import InvalidText
 from pairwarden.numbering import are_ascending
 from pairwarden.pool import Pool
+from pairwarden.words import is_number
 
 
 def write_pool(pool):
@@ -39,11 +40,6 @@ def _line(word, numbers):
 def _numbers_behind(line, word):
     """Return the numbers behind the word of a line, or None if the line has another form."""
     parts = line.split(" ")
-    if parts[0] != word or not all([_is_number(part) for part in parts[1:]]):
+    if parts[0] != word or not all([is_number(part) for part in parts[1:]]):
         return None
     return [int(part) for part in parts[1:]]
-
-
-def _is_number(part):
-    """Tell whether a part of a line consists of digits without a leading zero."""
-    return part.isdigit() and (part == "0" or not part.startswith("0"))

@@ -37,6 +37,18 @@ FUNCTIONS = {
         "give_back(net, choice, lost)", "is_lasting(net, choice, at_once)", "weak_seats(net, at_once)",
         "count_fault(choice, seats, cap, at_once)",
     ],
+    "cases": ["settle(net, at_once)", "is_case_tree(net, at_once, tree)"],
+    "plans": [
+        "cheapest_plan(pool, *, without=())", "is_quote(pool, quote, *, without=())",
+        "copies_to_add(pool, *, without=())", "retirement(pool, seat)",
+    ],
+    "moving": ["moves(pool, target)", "next_move(pool, target)"],
+    "even": ["even_pairs(seats, pieces)", "least_even_cap(seats, pieces)"],
+    "cells": ["write_block(number, text)", "read_block(cell)", "tear(old, new, kept)"],
+    "records": ["record_text(record)", "read_record(text)", "read_log(log)", "log_end(log)"],
+    "store": ["found(world, caps)"],
+    "commands": ["command_line(command)", "parse_line(line)"],
+    "desk": ["replay(caps, lines)"],
 }
 CLASSES = {
     "pool": {"Pool(caps, holders)": []},
@@ -44,6 +56,24 @@ CLASSES = {
     "games": {"Game(pool)": ["play(self, seat, sends)", "dead(self)", "first_fault(self)", "__iter__(self)"]},
     "nets": {"Net(roads, holders)": []},
     "keeping": {"KeptDealing(pool)": ["dealing(self)", "do(self, deed)"]},
+    "plans": {"Quote(cost, plan, piece_prices, pair_prices)": []},
+    "world": {
+        "World(seats)": [
+            "cut_after(self, writes, kept)", "write_cell(self, seat, slot, cell)", "write_log(self, index, text)",
+            "lose(self, seat)", "lose_cells(self, seat, slots)", "twin(self)",
+        ],
+    },
+    "ledger": {"Ledger(records)": ["to_picture(self)"]},
+    "store": {
+        "Store(world)": [
+            "list_names(self)", "list_numbers(self)", "list_caps(self)", "list_copies(self)", "list_wardens(self)",
+            "list_lacking(self)", "is_at_rest(self)", "as_pool(self)", "read(self, name)",
+            "put(self, name, text, *, at=())", "erase(self, name)", "list_sends(self)", "send(self, number, seat)",
+            "mend(self)", "add_copy(self, number, seat)", "drop_copy(self, number, seat)", "set_cap(self, seat, cap)",
+            "pack(self)",
+        ],
+    },
+    "desk": {"Desk(caps)": ["do(self, line)"]},
     "errors": {
         "InvalidPool(piece)": [], "InvalidChoice(piece)": [], "InvalidText(line)": [], "InvalidDeed(deed)": [],
         "InvalidSends(at)": [], "InvalidTable(seat, at)": [], "Unsafe(lot)": [], "CannotHold(lot)": [],
@@ -55,6 +85,15 @@ CLASSES = {
 
 def module_of(name):
     return importlib.import_module(f"pairwarden.{name}")
+
+
+ATTRIBUTES = {
+    "World": ["seats", "disks", "log", "writes", "fuse", "kept"],
+    "Ledger": ["caps", "names", "wardens", "top"],
+    "Store": ["world", "writing"],
+    "Desk": ["world", "store", "journal"],
+    "Quote": ["cost", "plan", "piece_prices", "pair_prices"],
+}
 
 
 class TestInterface(unittest.TestCase):
@@ -80,3 +119,18 @@ class TestInterface(unittest.TestCase):
         kind = module_of("nets").Net
         self.assertIsInstance(vars(kind)["level"], classmethod)
         self.assertEqual(str(inspect.signature(kind.level)), "(seats, cap, holders)")
+
+    def test_attributes_are_set_on_creation(self):
+        desk = module_of("desk").Desk([1, 1])
+        made = [
+            desk, desk.world, desk.store, module_of("ledger").Ledger([("picture", (1,), (), ())]),
+            module_of("plans").Quote(0, (), (), ()),
+        ]
+        self.assertEqual({each.__class__.__name__ for each in made}, set(ATTRIBUTES))
+        for each in made:
+            for name in ATTRIBUTES[each.__class__.__name__]:
+                self.assertIn(name, vars(each))
+
+    def test_constants(self):
+        cells = module_of("cells")
+        self.assertEqual([cells.WIDTH, cells.BLANK], [17, "-----------------"])
