@@ -36,7 +36,7 @@ def _read_line(line):
     parts = rest.split(" ")
     if len(parts) != NUMBERED.get(word) or not all([is_number(part) for part in parts]):
         return None
-    return (word, *[int(part) for part in parts])
+    return tuple([word] + [int(part) for part in parts])
 
 
 def _read_put(rest):
